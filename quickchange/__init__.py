@@ -1,0 +1,1 @@
+"""Quickchange: a theatre's wardrobe between scenes."""
