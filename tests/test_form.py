@@ -25,6 +25,13 @@ WORDS = re.compile(
     r"\b(type|typing|typing_extensions|enum|Enum|IntEnum|StrEnum|Flag|IntFlag|Generic|Protocol|ABC|ABCMeta"
     r"|namedtuple|NamedTuple|TypedDict|TYPE_CHECKING|abstractmethod)\b|dataclass|overload|contextmanager"
 )
+NOT_NAMES = set(
+    "register mro elements open input version_info with_traceback add_note attrgetter breakpoint builtins compile"
+    " copyright credits delattr dir eval exec exit gc getattr globals hasattr help id importlib license locals"
+    " methodcaller os quit setattr super type vars sys chr print format format_map".split()
+)
+WALKED = {"zip", "enumerate", "reversed", "range", "items", "keys", "values"}
+WALKERS = {"list", "tuple", "dict", "sorted", "sum", "any", "all", "enumerate", "zip"}
 UNUSED_NODES = (
     ast.With, ast.Delete, ast.Global, ast.Nonlocal, ast.Assert, ast.Yield, ast.YieldFrom, ast.Await, ast.Match,
     ast.AsyncFunctionDef, ast.AsyncFor, ast.AsyncWith, ast.SetComp, ast.DictComp, ast.GeneratorExp, ast.NamedExpr,
@@ -47,6 +54,31 @@ def nodes():
     for name, text in sources().items():
         for node in ast.walk(ast.parse(text)):
             yield f"{name}:{getattr(node, 'lineno', 0)}", node
+
+
+def nodes_with_parents():
+    """Each node of each file with where it stands and the node that it stands in."""
+    for where, node in nodes():
+        for part in ast.iter_child_nodes(node):
+            yield where, part, node
+
+
+def called(node):
+    """The name by which a node calls something, or None."""
+    if not isinstance(node, ast.Call):
+        return None
+    return node.func.id if isinstance(node.func, ast.Name) else getattr(node.func, "attr", None)
+
+
+def drawn_from():
+    """For each file the package's files that it draws names from, and the names."""
+    return {
+        name[:-3]: {
+            node.module.partition(".")[2]: [alias.name for alias in node.names]
+            for node in ast.parse(text).body if isinstance(node, ast.ImportFrom)
+        }
+        for name, text in sources().items()
+    }
 
 
 def own_methods():
@@ -110,6 +142,39 @@ class Nodes(unittest.TestCase):
             if isinstance(node, ast.ImportFrom):
                 self.assertEqual((node.level, node.module.split(".")[0]), (0, "quickchange"), where)
 
+    def test_names_are_drawn_from_the_file_that_defines_them(self):
+        defined = {
+            name[:-3]: [getattr(node, "name", None) for node in ast.parse(text).body]
+            for name, text in sources().items()
+        }
+        for name, drawn in drawn_from().items():
+            for source, names in drawn.items():
+                for wanted in names:
+                    self.assertIn(wanted, defined[source], name)
+
+    def test_no_two_files_draw_from_one_another(self):
+        drawn = drawn_from()
+        settled = set()
+        while len(settled) < len(drawn):
+            ready = [name for name in drawn if name not in settled and set(drawn[name]) <= settled]
+            self.assertNotEqual(ready, [], sorted(set(drawn) - settled))
+            settled.update(ready)
+
+    def test_walked_on_the_spot(self):
+        for where, node, parent in nodes_with_parents():
+            if called(node) in WALKED:
+                walks = isinstance(parent, (ast.For, ast.comprehension)) and parent.iter is node
+                first = called(parent) in WALKERS and parent.args[0] is node
+                alone = called(parent) in ("min", "max") and parent.args == [node] and not parent.keywords
+                self.assertTrue(walks or first or alone or called(parent) == "join", where)
+
+    def test_sets_are_not_kept(self):
+        for where, node, parent in nodes_with_parents():
+            self.assertNotIsInstance(node, ast.Set, where)
+            if called(node) == "set":
+                within = isinstance(parent, (ast.Compare, ast.BinOp)) or called(parent) in ("sorted", "len")
+                self.assertTrue(within, where)
+
     def test_functions_and_classes_are_plain(self):
         for where, node in nodes():
             if isinstance(node, (ast.FunctionDef, ast.ClassDef)):
@@ -138,6 +203,24 @@ class Names(unittest.TestCase):
             if bound is not None:
                 self.assertFalse(hasattr(builtins, bound), where)
                 self.assertRegex(bound, r"^[A-Za-z]", where)
+
+    def test_names_that_are_not_used(self):
+        for where, node in nodes():
+            if isinstance(node, ast.Name):
+                self.assertNotIn(node.id, NOT_NAMES, where)
+
+    def test_no_local_is_called_like_a_class_or_an_import_of_its_file(self):
+        for name, text in sources().items():
+            tree = ast.parse(text)
+            taken = {node.name for node in tree.body if isinstance(node, ast.ClassDef)}
+            for node in tree.body:
+                if isinstance(node, ast.ImportFrom):
+                    taken.update(alias.asname or alias.name for alias in node.names)
+            for node in ast.walk(tree):
+                if isinstance(node, ast.Name) and isinstance(node.ctx, ast.Store):
+                    self.assertNotIn(node.id, taken, f"{name}:{node.lineno}")
+                if isinstance(node, ast.arg):
+                    self.assertNotIn(node.arg, taken, f"{name}:{node.lineno}")
 
     def test_names_of_functions_and_classes(self):
         for where, node in nodes():

@@ -3,45 +3,12 @@
 import unittest
 from itertools import permutations
 
+from helping import COVERS, NO_NUMBERS as NO_GARMENTS, Asking, all_wearings, house, modelled
 from quickchange.errors import Covered, NoGarment, NotWorn, Worn
 from quickchange.wardrobe import Wardrobe
 from quickchange.wearing import (
     bare_wearing, dressed, outermost, put_on, right_over, seen_in, take_off, worn_in,
 )
-
-# 0 shirt, 1 trousers, 2 coat over both, 3 scarf, 4 shoes, 5 gown over all but the head.
-COVERS = [[1], [2], [1, 2], [0, 1], [3], [1, 2, 3]]
-NO_GARMENTS = (-1, 6, 7, 10 ** 6000, True, False, None, "0", "", [], [0], (0,), 0.0, {})
-
-
-def house():
-    return Wardrobe(4, COVERS)
-
-
-def all_wearings(wardrobe):
-    """Every wearing that comes of bare, by a walk of its own over all orders of some garments."""
-    found = {}
-    for count in range(wardrobe.many() + 1):
-        for order in permutations(range(wardrobe.many()), count):
-            found[modelled(wardrobe, order)] = order
-    return found
-
-
-def modelled(wardrobe, order):
-    """The wearing of an order, told place by place."""
-    return tuple(
-        tuple(garment for garment in order if place in wardrobe.covers(garment))
-        for place in range(wardrobe.spots())
-    )
-
-
-class Refusing(unittest.TestCase):
-    def refused(self, error, ask, **fields):
-        with self.assertRaises(error) as caught:
-            ask()
-        for name, value in fields.items():
-            self.assertEqual(getattr(caught.exception, name), value)
-            self.assertIs(getattr(caught.exception, name).__class__, value.__class__)
 
 
 class Bare(unittest.TestCase):
@@ -51,7 +18,7 @@ class Bare(unittest.TestCase):
         self.assertEqual(bare_wearing(Wardrobe(2, [])), ((), ()))
 
 
-class PuttingOn(Refusing):
+class PuttingOn(Asking):
     def test_at_several_places(self):
         wearing = put_on(house(), bare_wearing(house()), 3)
         self.assertEqual(wearing, ((3,), (3,), (), ()))
@@ -95,7 +62,7 @@ class PuttingOn(Refusing):
         self.assertEqual(put_on(house(), bare_wearing(house()), 5), ((), (5,), (5,), (5,)))
 
 
-class TakingOff(Refusing):
+class TakingOff(Asking):
     def test_at_several_places(self):
         wearing = dressed(house(), [0, 2, 4, 5])
         self.assertEqual(wearing, ((), (0, 2, 5), (2, 5), (4, 5)))
@@ -148,7 +115,7 @@ class TakingOff(Refusing):
         self.refused(Covered, lambda: take_off(house(), wearing, 5), garment=5, over=3)
 
 
-class Told(Refusing):
+class Told(Asking):
     def test_worn_in(self):
         self.assertEqual(worn_in(bare_wearing(house())), [])
         self.assertEqual(worn_in(dressed(house(), [5, 3, 0])), [0, 3, 5])
@@ -186,7 +153,7 @@ class Told(Refusing):
         self.assertEqual(seen_in(dressed(house(), [0])), [None, 0, None, None])
 
 
-class Dressed(Refusing):
+class Dressed(Asking):
     def test_an_order(self):
         self.assertEqual(dressed(house(), []), bare_wearing(house()))
         self.assertEqual(dressed(house(), [3, 0, 2]), ((3,), (3, 0, 2), (2,), ()))

@@ -1,0 +1,227 @@
+"""What several tests use: small worlds walked whole, told by the document's words and not by the program's."""
+
+import copy
+import unittest
+from itertools import combinations, permutations, product
+
+from quickchange.wardrobe import Wardrobe
+
+# 0 shirt, 1 trousers, 2 coat over both, 3 scarf, 4 shoes, 5 gown over all but the head.
+COVERS = [[1], [2], [1, 2], [0, 1], [3], [1, 2, 3]]
+
+# Six places and six garments; 2 meets all, 4 and 5 meet no other but 2.
+WIDE = [[0], [0, 5], [0, 1, 2, 3, 4, 5], [5], [1, 3], [2, 4]]
+
+# Each is no garment of a wardrobe of six, and no player.
+NO_NUMBERS = (-1, 6, 7, 10 ** 6000, True, False, None, "0", "", [], [0], (0,), 0.0, {})
+
+
+def house():
+    return Wardrobe(4, COVERS)
+
+
+def wide():
+    return Wardrobe(6, WIDE)
+
+
+def dressed_house(*orders):
+    """The standing of these orders in the house, a player each."""
+    return tuple(modelled(house(), order) for order in orders)
+
+
+def dressed_wide(*orders):
+    """The standing of these orders in the wide wardrobe, a player each."""
+    return tuple(modelled(wide(), order) for order in orders)
+
+
+def small_wardrobes():
+    """Wardrobes small enough that all their orders, rows and standings can be walked."""
+    return [
+        Wardrobe(1, []),
+        Wardrobe(6, [[2, 4]]),
+        Wardrobe(1, [[0], [0], [0]]),
+        Wardrobe(3, [[0], [1], [2]]),
+        Wardrobe(2, [[0], [0, 1], [1]]),
+        Wardrobe(3, [[0, 1], [1, 2], [0, 2]]),
+        Wardrobe(3, [[1, 2], [0], [0, 1, 2]]),
+    ]
+
+
+def larger_wardrobes():
+    """Wardrobes of four garments."""
+    return [
+        Wardrobe(3, [[0, 1], [1, 2], [0, 2], [1]]),
+        Wardrobe(2, [[0], [0, 1], [1], [0, 1]]),
+        Wardrobe(4, [[0, 1], [1, 2], [2, 3], [0, 3]]),
+        Wardrobe(2, [[0], [0], [1], [1]]),
+    ]
+
+
+def all_wardrobes(places, garments):
+    """Every wardrobe of so many places and garments."""
+    lists = [list(some) for count in range(1, places + 1) for some in combinations(range(places), count)]
+    return [Wardrobe(places, list(covers)) for covers in product(lists, repeat=garments)]
+
+
+def modelled(wardrobe, order):
+    """The wearing of an order, told place by place."""
+    return tuple(
+        tuple(garment for garment in order if place in wardrobe.covers(garment))
+        for place in range(wardrobe.spots())
+    )
+
+
+def all_orders(wardrobe):
+    """Every order of some of the garments."""
+    return [
+        order for count in range(wardrobe.many() + 1) for order in permutations(range(wardrobe.many()), count)
+    ]
+
+
+def all_wearings(wardrobe):
+    """Every wearing that comes of bare, with an order whose wearing it is."""
+    return {modelled(wardrobe, order): order for order in all_orders(wardrobe)}
+
+
+def all_standings(wardrobe, players):
+    """Every standing of so many players, sorted."""
+    found = set()
+    for worn_by in product(range(players + 1), repeat=wardrobe.many()):
+        choices = []
+        for player in range(players):
+            garments = [garment for garment, wearer in enumerate(worn_by) if wearer == player]
+            choices.append({modelled(wardrobe, order) for order in permutations(garments)})
+        found.update(product(*choices))
+    return sorted(found)
+
+
+def every_standing():
+    """Each standing of one to three players in the small wardrobes, with its wardrobe."""
+    for wardrobe in small_wardrobes():
+        for players in (1, 2, 3):
+            for standing in all_standings(wardrobe, players):
+                yield wardrobe, standing
+
+
+def worlds():
+    """Wardrobes, each with all standings of so many players, few enough that all pairs of them can be walked."""
+    for wardrobe in small_wardrobes():
+        for players in (1, 2):
+            yield wardrobe, all_standings(wardrobe, players)
+    yield Wardrobe(2, [[0], [0, 1]]), all_standings(Wardrobe(2, [[0], [0, 1]]), 3)
+    for wardrobe in larger_wardrobes():
+        yield wardrobe, all_standings(wardrobe, 1)
+
+
+def all_deeds(wardrobe, players):
+    """Every deed of so many players with the wardrobe's garments, sorted."""
+    return [
+        (player, word, garment)
+        for player in range(players) for word in ("off", "on") for garment in range(wardrobe.many())
+    ]
+
+
+def is_worn(standing, garment):
+    """True where any player wears it."""
+    return any(garment in row for wearing in standing for row in wearing)
+
+
+def after(wardrobe, standing, deed):
+    """The standing behind a deed, or None where it isn't let by."""
+    player, word, garment = deed
+    rows = list(standing[player])
+    for place in wardrobe.covers(garment):
+        if word == "on":
+            if is_worn(standing, garment):
+                return None
+            rows[place] = rows[place] + (garment,)
+        else:
+            if rows[place][-1:] != (garment,):
+                return None
+            rows[place] = rows[place][:-1]
+    return standing[:player] + (tuple(rows),) + standing[player + 1:]
+
+
+def after_all(wardrobe, standing, deeds):
+    """The standing behind deeds done one behind the other, or None where one isn't let by."""
+    for deed in deeds:
+        standing = after(wardrobe, standing, deed)
+        if standing is None:
+            return None
+    return standing
+
+
+def may_be_at_once(wardrobe, one, other):
+    """True where two deeds that are each let by may be done at once."""
+    common = set(wardrobe.covers(one[2])) & set(wardrobe.covers(other[2]))
+    return one[2] != other[2] and not (one[0] == other[0] and common)
+
+
+def all_beats(wardrobe, standing, most):
+    """Every beat of at most so many deeds that is let by, each a sorted list, sorted."""
+    alone = [deed for deed in all_deeds(wardrobe, len(standing)) if after(wardrobe, standing, deed) is not None]
+    return sorted(
+        list(some)
+        for count in range(min(most, len(alone), wardrobe.many()) + 1)
+        for some in combinations(alone, count)
+        if all(may_be_at_once(wardrobe, one, other) for one, other in combinations(some, 2))
+    )
+
+
+def turned(one, other):
+    """The pairs of garments, in the order that they have in the first, that stand the other way round in the other."""
+    return [(a, b) for a, b in combinations(one, 2) if other.index(a) > other.index(b)]
+
+
+def frozen(thing):
+    """What a thing holds, in a form that tells kinds apart and that no later change reaches."""
+    if isinstance(thing, Wardrobe):
+        return ("Wardrobe", thing.spots(), tuple(tuple(thing.covers(g)) for g in range(thing.many())))
+    if isinstance(thing, (list, tuple)):
+        return (thing.__class__.__name__,) + tuple(frozen(part) for part in thing)
+    return (thing.__class__.__name__, copy.deepcopy(thing))
+
+
+def spoil(thing):
+    """Changes every list within a thing."""
+    if isinstance(thing, (list, tuple)):
+        for part in thing:
+            spoil(part)
+    if isinstance(thing, list):
+        thing.reverse()
+        thing.append("spoiled")
+
+
+class Asking(unittest.TestCase):
+    """Asks the program, and sees each time that what is handed in stays and what is told is the asker's own."""
+
+    def told(self, ask, *handed):
+        """The answer."""
+        before = frozen(handed)
+        answer = ask(*handed)
+        self.assertEqual(frozen(handed), before)
+        first = frozen(answer)
+        self.assert_handed_is_let_go(ask, handed, first)
+        again = ask(*handed)
+        spoil(again)
+        self.assertEqual(frozen(answer), first)
+        self.assertEqual(frozen(handed), before)
+        self.assertEqual(frozen(ask(*handed)), first)
+        return answer
+
+    def assert_handed_is_let_go(self, ask, handed, first):
+        """What is done later to what was handed in doesn't change what was told."""
+        own = copy.deepcopy(handed)
+        answer = ask(*own)
+        spoil(own)
+        self.assertEqual(frozen(answer), first)
+
+    def refused(self, error, ask, *handed, **fields):
+        """Sees that asking is refused with this very class, and these fields, kinds and all."""
+        before = frozen(handed)
+        with self.assertRaises(error) as caught:
+            ask(*handed)
+        self.assertIs(caught.exception.__class__, error)
+        for name, value in fields.items():
+            self.assertEqual(frozen(getattr(caught.exception, name)), frozen(value))
+        self.assertEqual(frozen(handed), before)
