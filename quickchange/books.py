@@ -4,6 +4,9 @@ from quickchange.plain import copied
 from quickchange.wardrobe import Wardrobe
 from quickchange.wearing import dressed, seen_in
 
+MOST_DRESSERS = 6
+MOST_BEATS = 12
+
 
 def wardrobe_copy(wardrobe):
     """A wardrobe with the same places and garments."""

@@ -1,9 +1,12 @@
 """What several tests use: small worlds walked whole, told by the document's words and not by the program's."""
 
 import copy
+import random
 import unittest
 from itertools import combinations, permutations, product
 
+from quickchange.books import Book
+from quickchange.prompts import Prompt
 from quickchange.wardrobe import Wardrobe
 
 # 0 shirt, 1 trousers, 2 coat over both, 3 scarf, 4 shoes, 5 gown over all but the head.
@@ -14,6 +17,21 @@ WIDE = [[0], [0, 5], [0, 1, 2, 3, 4, 5], [5], [1, 3], [2, 4]]
 
 # Each is no garment of a wardrobe of six, and no player.
 NO_NUMBERS = (-1, 6, 7, 10 ** 6000, True, False, None, "0", "", [], [0], (0,), 0.0, {})
+
+# A shirt at the first place, and a coat over both.
+TINY = Wardrobe(2, [[0], [0, 1]])
+TINY_PRICES = [(1, 2), (4, 8)]
+BARE = ((), ())
+SHIRT = ((0,), ())
+COAT = ((1,), (1,))
+SHIRT_COAT = ((0, 1), (1,))
+COAT_SHIRT = ((1, 0), (1,))
+
+# The fields of the objects that are looked into.
+FIELDS = {
+    Book: ("wardrobe", "prices", "start", "dressers", "beats", "scenes"),
+    Prompt: ("places", "garments", "players", "book"),
+}
 
 
 def house():
@@ -151,6 +169,11 @@ def after_all(wardrobe, standing, deeds):
     return standing
 
 
+def after_beats(wardrobe, standing, beats):
+    """The standing behind a row of beats, each of which is let by."""
+    return after_all(wardrobe, standing, [deed for beat in beats for deed in beat])
+
+
 def may_be_at_once(wardrobe, one, other):
     """True where two deeds that are each let by may be done at once."""
     common = set(wardrobe.covers(one[2])) & set(wardrobe.covers(other[2]))
@@ -173,8 +196,130 @@ def turned(one, other):
     return [(a, b) for a, b in combinations(one, 2) if other.index(a) > other.index(b)]
 
 
+def holds(book, standing, wish):
+    """True where a wish holds in a standing."""
+    rows = standing[wish[1]]
+    if wish[0] == "stand":
+        return rows == modelled(book.wardrobe, wish[2])
+    return rows[wish[2]][-1:] == wish[3:4]
+
+
+def shows_all(book, moment, standing):
+    """True where all scenes of the moment are seen in the standing."""
+    return all(
+        holds(book, standing, wish) for when, wishes in book.scenes if when == moment for wish in wishes
+    )
+
+
+def cost(book, beats):
+    """The trouble of a row of beats."""
+    return sum(book.prices[garment][("on", "off").index(word)] for beat in beats for player, word, garment in beat)
+
+
+def fitting_rows(book, moment, standing):
+    """Every row of beats that goes with the book from there, its beats sorted."""
+    if shows_all(book, moment, standing):
+        if moment == book.beats:
+            yield []
+        else:
+            for beat in all_beats(book.wardrobe, standing, book.dressers):
+                for rest in fitting_rows(book, moment + 1, after_all(book.wardrobe, standing, beat)):
+                    yield [beat] + rest
+
+
+def walked(book, moment, standing):
+    """For each moment from there on the standings that can be come to: before its scenes are looked at, and behind.
+
+    Each is a dict of the least trouble; all beats of all standings are walked.
+    """
+    before = {standing: 0}
+    pairs = []
+    steps = {}
+    while True:
+        behind = {reached: spent for reached, spent in before.items() if shows_all(book, moment, reached)}
+        pairs.append((before, behind))
+        if moment == book.beats:
+            return pairs
+        moment += 1
+        before = {}
+        for reached, spent in behind.items():
+            if reached not in steps:
+                steps[reached] = [
+                    (after_all(book.wardrobe, reached, beat), cost(book, [beat]))
+                    for beat in all_beats(book.wardrobe, reached, book.dressers)
+                ]
+            for goal, trouble in steps[reached]:
+                before[goal] = min(spent + trouble, before.get(goal, spent + trouble))
+
+
+def tiny(start, dressers, beats, *scenes):
+    return Book(TINY, TINY_PRICES, start, dressers, beats, list(scenes))
+
+
+def counted(covers, places, orders, dressers, beats, scenes=()):
+    """A book in which each deed costs 1, from the standing of these orders."""
+    wardrobe = Wardrobe(places, covers)
+    start = tuple(modelled(wardrobe, order) for order in orders)
+    return Book(wardrobe, [(1, 1)] * len(covers), start, dressers, beats, list(scenes))
+
+
+def just_300_at_1(beats, *scenes):
+    covers = [[3], [1, 2, 3], [5], [0, 1, 3], [2, 3], [0, 5]]
+    return counted(covers, 6, [[1], [], []], 3, beats, scenes)
+
+
+def one_above_at_1(beats, *scenes):
+    return counted([[0, 3], [2], [3], [1], [1, 2]], 5, [[], [4], []], 4, beats, scenes)
+
+
+def just_300_at_4(beats, *scenes):
+    return counted([[0], [0], [1], [0, 1], [0, 2], [1, 2]], 3, [[]], 1, beats, scenes)
+
+
+def one_above_at_4(beats, *scenes):
+    return counted([[0]] * 6, 1, [[1, 0, 2, 5], [4, 3]], 2, beats, scenes)
+
+
+def drawn_wish(draw, wardrobe, standing):
+    """A wish that holds in the standing; now and then one that asks for whatever garment."""
+    covered = [place for garment in range(wardrobe.many()) for place in wardrobe.covers(garment)]
+    player, place = draw.randrange(len(standing)), draw.choice(covered + [wardrobe.spots() - 1])
+    if draw.randrange(3) == 0:
+        return ("stand", player, list(all_wearings(wardrobe)[standing[player]]))
+    row = standing[player][place]
+    if draw.randrange(12) == 0 and wardrobe.many() > 0:
+        row = (draw.randrange(wardrobe.many()),)
+    return ("see", player, place, row[-1]) if row else ("bare", player, place)
+
+
+def drawn_book(draw, wardrobe, players, beats):
+    """A book of so many players and beats, with a start, dressers and scenes as they are drawn."""
+    standings = all_standings(wardrobe, players)
+    scenes = []
+    # Seldom at moment 0, where most starts don't show a scene and nothing is left to be planned.
+    moments = [draw.choice(list(range(beats + 1)) + [beats] * 3) for number in range(draw.choice((0, 1, 1, 2, 3)))]
+    for moment in sorted(moments):
+        goal = draw.choice(standings)
+        scenes.append((moment, [drawn_wish(draw, wardrobe, goal) for number in range(draw.choice((0, 2, 2, 3)))]))
+    prices = [(draw.choice((0, 1, 2, 3, 5)), draw.choice((0, 1, 2, 4, 8))) for garment in range(wardrobe.many())]
+    return Book(wardrobe, prices, draw.choice(standings), draw.choice((0, 1, 1, 2, 2, 3)), beats, scenes)
+
+
+def drawn_books(seed, many, wardrobes, most_players, most_beats):
+    """So many books; the same ones for the same seed."""
+    draw = random.Random(seed)
+    books = []
+    for number in range(many):
+        # Seldom without a beat.
+        beats = max(draw.randint(0, most_beats), draw.randint(0, most_beats))
+        books.append(drawn_book(draw, draw.choice(wardrobes), draw.randint(1, most_players), beats))
+    return books
+
+
 def frozen(thing):
     """What a thing holds, in a form that tells kinds apart and that no later change reaches."""
+    if thing.__class__ in FIELDS:
+        return (thing.__class__.__name__,) + tuple(frozen(getattr(thing, name)) for name in FIELDS[thing.__class__])
     if isinstance(thing, Wardrobe):
         return ("Wardrobe", thing.spots(), tuple(tuple(thing.covers(g)) for g in range(thing.many())))
     if isinstance(thing, (list, tuple)):
@@ -184,6 +329,8 @@ def frozen(thing):
 
 def spoil(thing):
     """Changes every list within a thing."""
+    if thing.__class__ in FIELDS:
+        spoil([getattr(thing, name) for name in FIELDS[thing.__class__]])
     if isinstance(thing, (list, tuple)):
         for part in thing:
             spoil(part)

@@ -4,14 +4,13 @@ import unittest
 from itertools import product
 
 from helping import (
-    Asking, all_orders, all_standings, dressed_house, dressed_wide, frozen, house, modelled, small_wardrobes, spoil,
-    wide,
+    FIELDS, Asking, all_orders, all_standings, dressed_house, dressed_wide, frozen, house, modelled, small_wardrobes,
+    spoil, wide,
 )
 from quickchange.books import Book, is_shown
 from quickchange.wardrobe import Wardrobe
 
 PRICES = [(1, 2), (3, 5), (7, 11), (13, 17), (19, 23), (0, 10 ** 6)]
-FIELDS = ("wardrobe", "prices", "start", "dressers", "beats", "scenes")
 
 
 def handed():
@@ -26,7 +25,7 @@ def handed():
 
 
 def fields_of(book):
-    return [frozen(getattr(book, name)) for name in FIELDS]
+    return [frozen(getattr(book, name)) for name in FIELDS[Book]]
 
 
 class Books(Asking):
@@ -34,7 +33,7 @@ class Books(Asking):
         self.assertEqual(fields_of(Book(*handed())), [frozen(thing) for thing in handed()])
 
     def test_by_argument_names(self):
-        book = Book(**dict(zip(FIELDS, handed())))
+        book = Book(**dict(zip(FIELDS[Book], handed())))
         self.assertEqual(fields_of(book), [frozen(thing) for thing in handed()])
 
     def test_the_least_book(self):

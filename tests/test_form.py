@@ -81,6 +81,12 @@ def drawn_from():
     }
 
 
+def bound_at_top(tree):
+    """The names that a file binds at its top, apart from those that it draws from others."""
+    names = [node.name for node in tree.body if isinstance(node, (ast.FunctionDef, ast.ClassDef))]
+    return names + [target.id for node in tree.body if isinstance(node, ast.Assign) for target in node.targets]
+
+
 def own_methods():
     """The names of all methods of the package's classes."""
     return {
@@ -132,6 +138,24 @@ class Nodes(unittest.TestCase):
                 self.assertIsInstance(node.value, (int, str, bool, None.__class__), where)
                 self.assertNotIn("%", str(node.value), where)
 
+    def test_names_are_bound_once_at_the_top(self):
+        for name, text in sources().items():
+            tree = ast.parse(text)
+            names = bound_at_top(tree)
+            for node in tree.body:
+                if isinstance(node, ast.ImportFrom):
+                    names += [alias.asname or alias.name for alias in node.names]
+            self.assertEqual(len(names), len(set(names)), name)
+
+    def test_plain_values_at_the_top(self):
+        for name, text in sources().items():
+            for node in ast.parse(text).body:
+                if isinstance(node, ast.Assign):
+                    value = ast.literal_eval(node.value)
+                    parts = list(value.values()) if isinstance(value, dict) else value
+                    if isinstance(value, (list, dict)):
+                        self.assertFalse([part for part in parts if isinstance(part, (list, dict))], name)
+
     def test_is_beside_none_and_truths_alone(self):
         for where, node in nodes():
             if isinstance(node, ast.Compare) and isinstance(node.ops[0], (ast.Is, ast.IsNot)):
@@ -143,10 +167,7 @@ class Nodes(unittest.TestCase):
                 self.assertEqual((node.level, node.module.split(".")[0]), (0, "quickchange"), where)
 
     def test_names_are_drawn_from_the_file_that_defines_them(self):
-        defined = {
-            name[:-3]: [getattr(node, "name", None) for node in ast.parse(text).body]
-            for name, text in sources().items()
-        }
+        defined = {name[:-3]: bound_at_top(ast.parse(text)) for name, text in sources().items()}
         for name, drawn in drawn_from().items():
             for source, names in drawn.items():
                 for wanted in names:
