@@ -2,10 +2,12 @@
 
 import copy
 import random
+import re
 import unittest
 from itertools import combinations, permutations, product
 
 from quickchange.books import Book
+from quickchange.errors import NoName, NoRow, OutOfPlace, TooMuch, Twice
 from quickchange.prompts import Prompt
 from quickchange.wardrobe import Wardrobe
 
@@ -26,6 +28,27 @@ SHIRT = ((0,), ())
 COAT = ((1,), (1,))
 SHIRT_COAT = ((0, 1), (1,))
 COAT_SHIRT = ((1, 0), (1,))
+
+# The forms of a prompt's rows, and of those that a desk alone is told.
+NAME = "[a-z]{1,8}"
+PRICE = "(0|[1-9][0-9]{0,5}|1000000)"
+FORMS = [
+    f"place {NAME}", f"player {NAME}", f"garment {NAME} {PRICE} {PRICE}( {NAME})+", f"outfit {NAME}( {NAME})+",
+    f"wears {NAME}( {NAME})+", "dressers [0-6]", "gap ([0-9]|1[0-2])", "scene", f"see {NAME} {NAME} {NAME}",
+    f"bare {NAME} {NAME}", f"stand {NAME}( {NAME})*",
+]
+DESK_FORMS = [
+    "plan", "left", "spent", "moment", "now", "again", f"beat( {NAME} (on|off) {NAME})*", f"quickest {NAME}( {NAME})*",
+]
+
+# For each word of a row, behind the first one, what is asked there: a new name, a place, a garment, a player, a garment
+# or outfit (x), or none of these; the last one is asked of all further words.
+ASKED = {
+    "place": "n", "player": "n", "garment": "n--p", "outfit": "nx", "wears": "qx", "dressers": "-", "gap": "-",
+    "scene": "", "see": "qpg", "bare": "qp", "stand": "qx",
+}
+KINDS = {"n": [], "p": ["place"], "g": ["garment"], "q": ["player"], "x": ["garment", "outfit"]}
+WISH_WORDS = ("see", "bare", "stand")
 
 # The fields of the objects that are looked into.
 FIELDS = {
@@ -314,6 +337,173 @@ def drawn_books(seed, many, wardrobes, most_players, most_beats):
         beats = max(draw.randint(0, most_beats), draw.randint(0, most_beats))
         books.append(drawn_book(draw, draw.choice(wardrobes), draw.randint(1, most_players), beats))
     return books
+
+
+def named(book):
+    """A book with names for its places, garments and players."""
+    places = ["p" + "a" * number for number in range(book.wardrobe.spots())]
+    garments = ["g" + "a" * number for number in range(book.wardrobe.many())]
+    return Prompt(places, garments, ["q" + "a" * number for number in range(len(book.start))], book)
+
+
+def is_formed(row, forms):
+    """True where the row has one of the forms."""
+    return any(re.fullmatch(form, row) for form in forms)
+
+
+def first_words(rows):
+    return [row.split(" ")[0] for row in rows]
+
+
+def standing_names(rows):
+    """For each name that rows have brought its kind."""
+    parted = [row.split(" ") for row in rows]
+    return {words[1]: words[0] for words in parted if words[0] in ("place", "garment", "player", "outfit")}
+
+
+def spelled(rows, pieces):
+    """The names of the garments that pieces stand for."""
+    outfits = {row.split(" ")[1]: row.split(" ")[2:] for row in rows if row.startswith("outfit ")}
+    return [name for piece in pieces for name in (spelled(rows, outfits[piece]) if piece in outfits else [piece])]
+
+
+def asked_of(words):
+    """For each word behind the first one what is asked there."""
+    asked = ASKED[words[0]]
+    return [asked[min(place, len(asked) - 1)] for place in range(len(words) - 1)]
+
+
+def no_name(rows, words):
+    """The first name that is new and stands already, or is none of its kind; or None."""
+    names = standing_names(rows)
+    for name, asked in zip(words[1:], asked_of(words)):
+        if asked != "-" and (name in names if asked == "n" else names.get(name) not in KINDS[asked]):
+            return name
+    return None
+
+
+def listed(rows, words):
+    """The list of a row, written out."""
+    if words[0] == "garment":
+        return words[4:]
+    return spelled(rows, words[2:]) if words[0] in ("outfit", "wears", "stand") else []
+
+
+def twice(rows, words):
+    """The first name of a row's list that stands ahead, too, or is worn already; or None."""
+    names = listed(rows, words)
+    worn = []
+    if words[0] == "wears":
+        worn = [name for row in rows if row.startswith("wears ") for name in listed(rows, row.split(" "))]
+    return next((name for place, name in enumerate(names) if name in worn + names[:place]), None)
+
+
+def is_above(rows, words):
+    """True where a row brings more than there may be."""
+    firsts = first_words(rows)
+    if words[0] == "gap":
+        return int(words[1]) + sum(int(row.split(" ")[1]) for row in rows if row.startswith("gap ")) > 12
+    if words[0] in WISH_WORDS:
+        # Behind the last scene stand its wishes alone.
+        return firsts[::-1].index("scene") == 12
+    return firsts.count(words[0]) == {"place": 6, "garment": 6, "player": 3, "scene": 6}.get(words[0])
+
+
+def fault(rows, row):
+    """What a row behind good rows is refused with, as a class and fields; or None."""
+    number = len(rows) + 1
+    if not is_formed(row, FORMS):
+        return NoRow, {"row": number}
+    words = row.split(" ")
+    times = [word for word in first_words(rows) if word in ("gap", "scene")]
+    if words[0] in WISH_WORDS:
+        is_out = times[-1:] != ["scene"]
+    else:
+        is_out = words[0] not in ("gap", "scene") and times != []
+    if is_out:
+        return OutOfPlace, {"row": number}
+    if no_name(rows, words) is not None:
+        return NoName, {"row": number, "name": no_name(rows, words)}
+    if twice(rows, words) is not None:
+        return Twice, {"row": number, "name": twice(rows, words)}
+    return (TooMuch, {"row": number}) if is_above(rows, words) else None
+
+
+def prompt_of(rows):
+    """The prompt that good rows tell."""
+    parted = [row.split(" ") for row in rows]
+    names = {kind: [words[1] for words in parted if words[0] == kind] for kind in ("place", "garment", "player")}
+    numbers = {name: number for kind in names for number, name in enumerate(names[kind])}
+    garments = [words for words in parted if words[0] == "garment"]
+    wardrobe = Wardrobe(len(names["place"]), [sorted(numbers[name] for name in words[4:]) for words in garments])
+    worn = {name: [] for name in names["player"]}
+    dressers, beats, scenes = 1, 0, []
+    for words in parted:
+        order = [numbers[name] for name in listed(rows, words)]
+        if words[0] == "wears":
+            worn[words[1]] += order
+        elif words[0] == "dressers":
+            dressers = int(words[1])
+        elif words[0] == "gap":
+            beats += int(words[1])
+        elif words[0] == "scene":
+            scenes.append((beats, []))
+        elif words[0] == "stand":
+            scenes[-1][1].append(("stand", numbers[words[1]], order))
+        elif words[0] in WISH_WORDS:
+            scenes[-1][1].append((words[0], *[numbers[name] for name in words[1:]]))
+    prices = [(int(words[2]), int(words[3])) for words in garments]
+    start = tuple(modelled(wardrobe, order) for order in worn.values())
+    return Prompt(*names.values(), Book(wardrobe, prices, start, dressers, beats, scenes))
+
+
+def drawn_name(draw, rows, asked):
+    """A name where one is asked; now and then one that doesn't fit there."""
+    names = standing_names(rows)
+    fitting = [name for name, kind in names.items() if kind in KINDS[asked]]
+    if asked == "n" and draw.randrange(10) > 0:
+        return "".join(draw.choice("abcdefghij") for number in range(draw.choice((1, 2, 2, 8))))
+    if fitting and draw.randrange(12) > 0:
+        return draw.choice(fitting)
+    return draw.choice(list(names) + ["scene", "on"])
+
+
+def drawn_row(draw, rows, words):
+    """A row that begins with one of these words."""
+    word = draw.choice(words)
+    if word == "scene":
+        return word
+    if word in ("gap", "dressers"):
+        return f"{word} {draw.choice((0, 1, 1, 2, 3, 4, 6))}"
+    told = [word]
+    for asked in ASKED[word][:-1] if word in ("garment", "outfit", "wears", "stand") else ASKED[word]:
+        told.append(str(draw.choice((0, 1, 2, 5, 10, 1000000))) if asked == "-" else drawn_name(draw, rows, asked))
+    if word in ("garment", "outfit", "wears", "stand"):
+        least = 0 if word == "stand" else 1
+        told += [drawn_name(draw, rows, ASKED[word][-1]) for number in range(max(least, draw.choice((0, 1, 1, 2, 3))))]
+    return " ".join(told)
+
+
+def drawn_prompts(seed, many):
+    """So many lists of good rows, the same ones for the same seed, each with rows that are refused behind some of them.
+
+    Of these each comes as a pair: how many of the rows stand ahead, and the row.
+    """
+    draw = random.Random(seed)
+    setting = ["place", "place", "garment", "garment", "player", "outfit", "wears", "wears", "dressers"]
+    passing = ["gap", "scene", "scene", "see", "bare", "stand", "see", "bare", "stand", "stand", "see"]
+    found = []
+    for number in range(many):
+        rows, refused = ["place head", "player ann"], []
+        for usual, others in ((setting, passing), (passing, setting)):
+            for step in range(draw.choice((6, 14, 26, 40))):
+                row = drawn_row(draw, rows, usual if draw.randrange(15) > 0 or usual == setting else others)
+                if fault(rows, row) is None:
+                    rows.append(row)
+                else:
+                    refused.append((len(rows), row))
+        found.append((rows, refused))
+    return found
 
 
 def frozen(thing):

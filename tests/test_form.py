@@ -156,6 +156,25 @@ class Nodes(unittest.TestCase):
                     if isinstance(value, (list, dict)):
                         self.assertFalse([part for part in parts if isinstance(part, (list, dict))], name)
 
+    def test_lists_and_dicts_of_the_top_are_only_read(self):
+        kept = {
+            node.targets[0].id
+            for name, text in sources().items() for node in ast.parse(text).body
+            if isinstance(node, ast.Assign) and isinstance(node.value, (ast.List, ast.Dict))
+        }
+        for where, node, parent in nodes_with_parents():
+            if isinstance(node, ast.Name) and node.id in kept and isinstance(node.ctx, ast.Load):
+                indexed = isinstance(parent, ast.Subscript) and isinstance(parent.ctx, ast.Load)
+                asked = isinstance(parent, ast.Compare) or called(parent) in ("len", "list", "dict", "sorted", "tuple")
+                walked = isinstance(parent, (ast.For, ast.comprehension))
+                self.assertTrue(indexed or asked or walked, where)
+
+    def test_f_strings_hold_names_alone(self):
+        for where, node in nodes():
+            if isinstance(node, ast.FormattedValue):
+                self.assertIsInstance(node.value, ast.Name, where)
+                self.assertIsNone(node.format_spec, where)
+
     def test_is_beside_none_and_truths_alone(self):
         for where, node in nodes():
             if isinstance(node, ast.Compare) and isinstance(node.ops[0], (ast.Is, ast.IsNot)):
