@@ -1,6 +1,7 @@
 """Points 25 and 26: what rows tell, and the refusals of reading in their order."""
 
 import unittest
+from itertools import product
 
 from helping import Asking, drawn_prompts, fault, frozen, modelled, prompt_of
 from quickchange.errors import NoName, NoRow, OutOfPlace, TooMuch, Twice
@@ -86,6 +87,13 @@ class Told(Reading):
             *SIX, "outfit x f", "outfit y e x d", "outfit z c y b", "outfit all z a", "wears ann all",
         ).book
         self.assertEqual(book.start, (((2, 4, 5, 3, 1, 0),),))
+
+    def test_outfits_a_thousand_deep(self):
+        names = ["".join(letters) for letters in product("abcdefghij", repeat=3)]
+        rows = [f"outfit {name} {within}" for within, name in zip(["hat"] + names, names)]
+        book = self.read(*SETTING, *rows, f"wears ann {names[-1]}").book
+        self.assertEqual(book.start[0], ((0,), ()))
+        self.refused_at(Twice, SETTING + rows + [f"wears ann {names[-1]} {names[500]}"], "hat")
 
     def test_an_outfit_may_be_used_again(self):
         rows = SETTING + ["outfit one hat coat", "scene", "stand ann one", "stand bob one", "stand ann one"]
